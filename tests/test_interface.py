@@ -1,0 +1,76 @@
+"""The names and arguments of the document's interface, and the files that define them."""
+
+import importlib
+import inspect
+import unittest
+
+FUNCTIONS = {
+    "whole": {
+        "is_integer": "(value)", "common": "(numbers)", "multiple": "(numbers)", "is_prime": "(n)",
+        "prime_powers": "(n)", "divisors": "(n)", "coprime_count": "(n)", "root_floor": "(n)", "exact_root": "(n)",
+        "power_modulo": "(a, k, p)", "inverse_modulo": "(a, p)", "generator_modulo": "(p)", "prime_above": "(e, bound)"},
+    "cyclo": {
+        "cyclotomic": "(e)", "root": "(e, k=1)", "of_integer": "(n)", "added": "(numbers)", "read_cyclo": "(text)"},
+    "modular": {
+        "reduced": "(rows, width, p)", "kernel": "(rows, width, p)", "coordinates": "(rows, vector, p)",
+        "times": "(rows, vector, p)", "before": "(vector, rows, width, p)", "product": "(a, b, width, p)",
+        "eigenspaces": "(rows, p)"},
+    "permutation": {"identity": "(m)", "read_permutation": "(text, m)"},
+    "group": {"cyclic": "(n)", "direct": "(a, b)", "from_permutations": "(generators)"},
+    "classes": {
+        "classes": "(group)", "class_numbers": "(group)", "class_of_power": "(group, i, k)",
+        "inverse_classes": "(group)", "is_subgroup": "(group, elems)", "is_normal": "(group, elems)",
+        "generated": "(group, elems)", "normal_closure": "(group, elems)", "centre": "(group)", "derived": "(group)",
+        "quotient": "(group, normal)", "as_group": "(group, subgroup)"},
+}
+
+CLASSES = {
+    "errors": {
+        "Fault": {}, "ZeroDivisor": {}, "Malformed": {}, "Refused": {"__init__": "(self, reason)"},
+        "NoText": {"__init__": "(self, at)"}},
+    "cyclo": {"Cyclo": {
+        "__init__": "(self, e, items, low=1)", "__add__": "(self, other)", "__sub__": "(self, other)",
+        "__mul__": "(self, other)", "__neg__": "(self)", "__eq__": "(self, other)", "__str__": "(self)",
+        "key": "(self)", "over": "(self, n)", "scaled": "(self, n)", "power": "(self, k)", "mirrored": "(self)",
+        "image": "(self, k)", "norm_square": "(self)", "is_zero": "(self)", "rational": "(self)", "whole": "(self)"}},
+    "permutation": {"Permutation": {
+        "__init__": "(self, images)", "__mul__": "(self, other)", "__eq__": "(self, other)", "__call__": "(self, k)",
+        "__str__": "(self)", "inverse": "(self)", "order": "(self)", "cycles": "(self)", "fixed": "(self)"}},
+    "group": {"Group": {
+        "__init__": "(self, table)", "__len__": "(self)", "__eq__": "(self, other)", "product": "(self, x, y)",
+        "inverse": "(self, x)", "power": "(self, x, k)", "order_of": "(self, x)", "conjugated": "(self, x, g)",
+        "exponent": "(self)", "is_abelian": "(self)", "relabelled": "(self, images)"}},
+}
+
+
+def module(name):
+    return importlib.import_module("classtable." + name)
+
+
+class Interface(unittest.TestCase):
+    def test_functions(self):
+        for name, functions in FUNCTIONS.items():
+            for word, told in functions.items():
+                found = getattr(module(name), word)
+                self.assertTrue(inspect.isfunction(found), word)
+                self.assertEqual(found.__module__, "classtable." + name, word)
+                self.assertEqual(str(inspect.signature(found)), told, word)
+
+    def test_classes(self):
+        for name, kinds in CLASSES.items():
+            for word, methods in kinds.items():
+                found = getattr(module(name), word)
+                self.assertTrue(inspect.isclass(found), word)
+                self.assertEqual(found.__module__, "classtable." + name, word)
+                for method, told in methods.items():
+                    self.assertIn(method, vars(found), word)
+                    self.assertEqual(str(inspect.signature(vars(found)[method])), told, (word, method))
+
+    def test_the_package_itself_defines_nothing(self):
+        package = importlib.import_module("classtable")
+        names = {word for word in vars(package) if not word.startswith("__")}
+        self.assertEqual({word for word in names if not inspect.ismodule(getattr(package, word))}, set())
+
+
+if __name__ == "__main__":
+    unittest.main()
