@@ -1,5 +1,6 @@
 """Vectors and matrices modulo a prime p, as point 1.7 tells them."""
 
+from classtable.eigenvalues import eigenvalues, less
 from classtable.whole import inverse_modulo
 
 
@@ -9,13 +10,6 @@ def _row_with(rows, start, column):
         if rows[at][column] != 0:
             return at
     return None
-
-
-def _less(row, c, other, p):
-    """The row less c times the other one."""
-    if c == 0:
-        return row
-    return [(x - c * y) % p for x, y in zip(row, other)]
 
 
 def reduced(rows, width, p):
@@ -29,7 +23,7 @@ def reduced(rows, width, p):
             unit = inverse_modulo(rest[at][column], p)
             pivot_row = [c * unit % p for c in rest[at]]
             rest[at] = rest[done]
-            rest = [_less(row, row[column], pivot_row, p) for row in rest]
+            rest = [less(row, row[column], pivot_row, p) for row in rest]
             rest[done] = pivot_row
             pivots.append(column)
     return tuple([tuple(row) for row in rest[:len(pivots)]]), tuple(pivots)
@@ -69,7 +63,7 @@ def before(vector, rows, width, p):
     """The sum of the rows multiplied by the items of the vector."""
     total = [0] * width
     for c, row in zip(vector, rows):
-        total = _less(total, -c, row, p)
+        total = less(total, -c, row, p)
     return tuple(total)
 
 
@@ -83,12 +77,10 @@ def eigenspaces(rows, p):
     width = len(rows)
     columns = [[row[k] for row in rows] for k in range(width)]
     found = []
-    for s in range(p):
+    for s in eigenvalues(rows, p):
         shifted = [list(column) for column in columns]
         for k in range(width):
             shifted[k][k] = shifted[k][k] - s
-        vectors = kernel(shifted, width, p)
-        if len(vectors) > 0:
-            basis, _ = reduced(vectors, width, p)
-            found.append((s, basis))
+        basis, _ = reduced(kernel(shifted, width, p), width, p)
+        found.append((s, basis))
     return tuple(found)

@@ -22,6 +22,15 @@ EXAMPLES = """
 >>> from classtable.group import cyclic
 >>> cyclic(5).product(3, 4)
 2
+
+>>> from classtable.group import cyclic
+>>> from classtable.splitting import modular_rows
+>>> modular_rows(cyclic(2))
+(3, ((1, 1), (1, 2)))
+
+>>> from classtable.splitting import prime_of
+>>> prime_of(1, 1)
+3
 """
 
 
@@ -35,7 +44,7 @@ def failures(text, name):
 class Examples(unittest.TestCase):
     def test_document(self):
         attempted, told = failures(EXAMPLES, "document")
-        self.assertEqual((attempted, told), (8, ""))
+        self.assertEqual((attempted, told), (13, ""))
 
     def test_readme(self):
         attempted, told = failures(README.read_text(encoding="utf-8").replace("```", ""), "readme")

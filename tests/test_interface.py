@@ -22,6 +22,17 @@ FUNCTIONS = {
         "inverse_classes": "(group)", "is_subgroup": "(group, elems)", "is_normal": "(group, elems)",
         "generated": "(group, elems)", "normal_closure": "(group, elems)", "centre": "(group)", "derived": "(group)",
         "quotient": "(group, normal)", "as_group": "(group, subgroup)"},
+    "constants": {
+        "constant": "(group, i, j, k)", "class_matrix": "(group, i)", "class_matrices": "(group)",
+        "central_product": "(group, x, y)", "class_sizes": "(group)", "triples": "(group, i, j, k)",
+        "commuting_pairs": "(group)"},
+    "splitting": {
+        "prime_of": "(n, e)", "root_of": "(p, e)", "split": "(matrices, p)", "modular_rows": "(group)",
+        "is_modular_row": "(matrices, p, row)"},
+    "lifting": {
+        "degree_of": "(group, p, row)", "modular_character": "(group, p, row)",
+        "multiplicities": "(group, p, character, i)", "lifted": "(group, p, character)", "characters": "(group)",
+        "central_row": "(group, d, values)"},
 }
 
 CLASSES = {
