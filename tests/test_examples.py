@@ -31,6 +31,12 @@ EXAMPLES = """
 >>> from classtable.splitting import prime_of
 >>> prime_of(1, 1)
 3
+
+>>> from classtable.cyclo import of_integer
+>>> from classtable.functions import everywhere
+>>> from classtable.group import cyclic
+>>> str(everywhere(cyclic(3), of_integer(2)).inner(everywhere(cyclic(3), of_integer(2))))
+'4'
 """
 
 
@@ -44,7 +50,7 @@ def failures(text, name):
 class Examples(unittest.TestCase):
     def test_document(self):
         attempted, told = failures(EXAMPLES, "document")
-        self.assertEqual((attempted, told), (13, ""))
+        self.assertEqual((attempted, told), (17, ""))
 
     def test_readme(self):
         attempted, told = failures(README.read_text(encoding="utf-8").replace("```", ""), "readme")

@@ -33,6 +33,12 @@ FUNCTIONS = {
         "degree_of": "(group, p, row)", "modular_character": "(group, p, row)",
         "multiplicities": "(group, p, character, i)", "lifted": "(group, p, character)", "characters": "(group)",
         "central_row": "(group, d, values)"},
+    "table": {"character_table": "(group)", "is_central_row": "(group, row)"},
+    "papers": {"table_paper": "(table)"},
+    "checker": {"takes_table": "(group, paper)", "is_class_list": "(group, value)"},
+    "functions": {
+        "everywhere": "(group, c)", "character": "(table, k)", "combined": "(table, multiples)",
+        "fixed_points": "(group, permutations)"},
 }
 
 CLASSES = {
@@ -51,6 +57,15 @@ CLASSES = {
         "__init__": "(self, table)", "__len__": "(self)", "__eq__": "(self, other)", "product": "(self, x, y)",
         "inverse": "(self, x)", "power": "(self, x, k)", "order_of": "(self, x)", "conjugated": "(self, x, g)",
         "exponent": "(self)", "is_abelian": "(self)", "relabelled": "(self, images)"}},
+    "table": {"CharacterTable": {
+        "__init__": "(self, group, rows)", "__len__": "(self)", "__iter__": "(self)", "__eq__": "(self, other)",
+        "degrees": "(self)", "value": "(self, k, x)", "central": "(self, k)"}},
+    "functions": {"ClassFunction": {
+        "__init__": "(self, group, values, *, known=None)", "__add__": "(self, other)", "__sub__": "(self, other)",
+        "__mul__": "(self, other)", "__neg__": "(self)", "__eq__": "(self, other)", "__call__": "(self, x)",
+        "degree": "(self)", "scaled": "(self, c)", "mirrored": "(self)", "raised": "(self, k)", "inner": "(self, g)",
+        "symmetric_square": "(self)", "exterior_square": "(self)", "indicator": "(self)", "multiples": "(self, table)",
+        "is_sum_of_characters": "(self, table)"}},
 }
 
 
