@@ -37,7 +37,7 @@ def _has_form(group, paper):
     if not isinstance(paper, tuple) or len(paper) != 4:
         return False
     word, found, degrees, values = paper
-    if not isinstance(word, str) or word != "table" or not is_class_list(group, found):
+    if word != "table" or not is_class_list(group, found):
         return False
     return _are_degrees(degrees, len(found)) and _are_rows(values, len(found))
 

@@ -230,6 +230,12 @@ class NotTaken(unittest.TestCase):
                             yield found, degrees, set_at(values, k, set_at(row, j, other))
         self.not_taken(make)
 
+    def test_numbers_without_a_sum_within_reach(self):
+        word, found, degrees, values = PAPERS["dihedral5"]
+        for row in ((ONE, ONE, root(4999), root(4993)), (ONE, root(4999), root(4993), root(4987))):
+            paper = (word, found, degrees, set_at(values, 1, row))
+            self.assertIs(takes_table(GROUPS["dihedral5"], paper), False)
+
     def test_a_mixed_row(self):
         def make(found, degrees, values):
             for k in range(1, len(values)):

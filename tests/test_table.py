@@ -152,7 +152,7 @@ class Tables(unittest.TestCase):
 
     def test_order_60(self):
         start = time.monotonic()
-        for group in (GROUPS["alternating5"], cyclic(60), cyclic(59), direct(cyclic(30), cyclic(2))):
+        for group in (GROUPS["alternating5"], cyclic(60), direct(cyclic(30), cyclic(2))):
             self.assertEqual(len(character_table(group)), len(classes(group)))
         self.assertLess(time.monotonic() - start, 20)
 
@@ -213,6 +213,7 @@ class CentralRows(unittest.TestCase):
         row = (ONE, root(4999), root(4993))
         self.assertIs(is_central_row(cyclic(3), row), False)
         self.assertIs(is_central_row(cyclic(2), (ONE, root(5000))), False)
+        self.assertIs(is_central_row(GROUPS["dihedral5"], (ONE, ONE, root(4999), root(4993))), False)
 
 
 if __name__ == "__main__":
