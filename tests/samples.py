@@ -1,7 +1,11 @@
 """Groups for the tests, by tables that are made here without the program's own constructions."""
 
+from itertools import combinations
 from itertools import permutations as arrangements
 
+from classtable.classes import class_numbers, classes
+from classtable.cyclo import Cyclo, root
+from classtable.functions import ClassFunction
 from classtable.group import Group, from_permutations
 from classtable.permutation import Permutation
 
@@ -115,3 +119,95 @@ KINDS.update({name: GROUPS[name] for name in ("quaternion", "dihedral5", "three 
 OTHERWISE = {f"{name}, reversed": reversed_numbers(KINDS[name]) for name in KINDS}
 OTHERWISE.update({f"{name}, rotated": rotated_numbers(KINDS[name]) for name in KINDS})
 ALL_KINDS = {**KINDS, **OTHERWISE}
+
+# Those that restricting, inducing and normal subgroups are tested with.
+PARTED = {f"cyclic {n}": Group(cyclic_table(n)) for n in range(1, 13)}
+PARTED.update({
+    f"pairs {m} {n}": Group(pairs_table(cyclic_table(m), cyclic_table(n)))
+    for m, n in ((2, 2), (2, 3), (2, 4), (3, 3), (2, 6))})
+PARTED.update({name: group for name, group in KINDS.items() if name.startswith("permutations")})
+PARTED.update({f"dihedral{n}": GROUPS[f"dihedral{n}"] for n in (4, 5, 6)})
+PARTED.update({name: GROUPS[name] for name in ("quaternion", "alternating4", "alternating5")})
+PARTED.update({
+    " by ".join(str(n) for n in orders): Group(pairs_table(cyclic_table(orders[0]), pairs_table(*map(cyclic_table, orders[1:]))))
+    for orders in ((2, 2, 2), (2, 2, 3), (2, 3, 2))})
+PARTED.update({
+    f"{name}, reversed": reversed_numbers(PARTED[name])
+    for name in ("cyclic 6", "pairs 2 4", "dihedral6", "quaternion", "alternating4")})
+
+OTHER_FORMS = (
+    None, True, False, 0, 1, -1, "", "0", "(0,)", [], [0], [0, 1], [[0]], ((0,),), ((0,), (1,)), ("0",), (None,), (0, None),
+    (False,), (0, True), (False, True), (0, "1"), (0, (1,)), root(1), (root(1),), GROUPS["two"], (GROUPS["two"],),
+    Permutation((0,)))
+
+
+def drawn(group, start):
+    """A class function with values of all sorts."""
+    found = [root(4, k * start).scaled(k - start) + Cyclo(3, (k * k, start), 2) for k in range(len(classes(group)))]
+    return ClassFunction(group, found)
+
+
+def at_all(f):
+    """The values at all members, by the classes that the row goes by."""
+    return [f.row[i] for i in class_numbers(f.group)]
+
+
+def closed(group, generators):
+    """The members of the subgroup that these generate, ascending."""
+    found, waiting = {0}, [0]
+    while waiting:
+        x = waiting.pop()
+        for y in (group.table[x][g] for g in generators):
+            if y not in found:
+                found.add(y)
+                waiting.append(y)
+    return tuple(sorted(found))
+
+
+def subgroups_of(group):
+    """All subgroups, each by adding one member after the other to those that generate it."""
+    found = {(0,): ()}
+    waiting = [(0,)]
+    while waiting:
+        part = waiting.pop()
+        for x in range(len(group)):
+            if x not in part:
+                generators = found[part] + (x,)
+                larger = closed(group, generators)
+                if larger not in found:
+                    found[larger] = generators
+                    waiting.append(larger)
+    return sorted(found, key=lambda part: (len(part), part))
+
+
+def no_subgroups(group):
+    """Tuples of members that are not those of a subgroup, or not ascending, or not each once; and other values."""
+    many = len(group)
+    everyone = tuple(range(many))
+    found = [(), everyone[1:], everyone + (many,), (-1,) + everyone, everyone + (0,), (0, 0), (many,)]
+    for part in subgroups_of(group):
+        found.append(list(part))
+        if len(part) > 1:
+            found += [part[::-1], part[1:], part[1:] + part[:1], part + part[-1:], part[:1] + part]
+        if len(part) > 2:
+            found.append(part[:-1])
+        for x in everyone:
+            larger = tuple(sorted({*part, x}))
+            if larger != closed(group, larger):
+                found.append(larger)
+    return found + [value for value in OTHER_FORMS if value != (0,)]
+
+
+def normal_sets(group, found):
+    """All normal subgroups as tuples of class indexes, by walking all sets of the found classes."""
+    numbers = {x: i for i, members in enumerate(found) for x in members}
+    products = [[{numbers[group.table[x][y]] for x in one for y in two} for two in found] for one in found]
+    inverses = [numbers[group.table[members[0]].index(0)] for members in found]
+    told = []
+    for size in range(len(found)):
+        for others in combinations(range(1, len(found)), size):
+            inside = {0, *others}
+            if all(inverses[i] in inside for i in others):
+                if all(products[i][j] <= inside for i in others for j in others):
+                    told.append((0, *others))
+    return sorted(told, key=lambda indexes: (sum(len(found[i]) for i in indexes), indexes))

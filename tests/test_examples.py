@@ -37,6 +37,18 @@ EXAMPLES = """
 >>> from classtable.group import cyclic
 >>> str(everywhere(cyclic(3), of_integer(2)).inner(everywhere(cyclic(3), of_integer(2))))
 '4'
+
+>>> from classtable.group import cyclic
+>>> from classtable.normal import normal_subgroups
+>>> from classtable.table import character_table
+>>> normal_subgroups(character_table(cyclic(4)))
+((0,), (0, 1), (0, 1, 2, 3))
+
+>>> from classtable.group import cyclic
+>>> from classtable.lattice import chief_factors
+>>> from classtable.table import character_table
+>>> chief_factors(character_table(cyclic(6)))
+(2, 3)
 """
 
 
@@ -50,7 +62,7 @@ def failures(text, name):
 class Examples(unittest.TestCase):
     def test_document(self):
         attempted, told = failures(EXAMPLES, "document")
-        self.assertEqual((attempted, told), (17, ""))
+        self.assertEqual((attempted, told), (25, ""))
 
     def test_readme(self):
         attempted, told = failures(README.read_text(encoding="utf-8").replace("```", ""), "readme")

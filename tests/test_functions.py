@@ -8,24 +8,13 @@ from classtable.functions import ClassFunction, character, combined, everywhere,
 from classtable.group import cyclic, direct, from_permutations
 from classtable.permutation import Permutation, identity
 from classtable.table import character_table
-from tests.samples import ALL_KINDS, GROUPS
+from tests.samples import ALL_KINDS, GROUPS, at_all, drawn
 
 ONE, ZERO = of_integer(1), of_integer(0)
 SOME = {name: (GROUPS | ALL_KINDS)[name] for name in (
     "trivial", "two", "cyclic 5", "four-group", "symmetric3", "symmetric4", "alternating4", "quaternion", "dihedral5",
     "three by symmetric3", "symmetric4", "permutations of 4, 8, rotated", "alternating5")}
 TABLES = {name: character_table(group) for name, group in SOME.items()}
-
-
-def drawn(group, start):
-    """A class function with values of all sorts."""
-    found = [root(4, k * start).scaled(k - start) + Cyclo(3, (k * k, start), 2) for k in range(len(classes(group)))]
-    return ClassFunction(group, found)
-
-
-def at_all(f):
-    """The values at all members, by the classes that the row goes by."""
-    return [f.row[i] for i in class_numbers(f.group)]
 
 
 def summed(values, n):

@@ -39,6 +39,15 @@ FUNCTIONS = {
     "functions": {
         "everywhere": "(group, c)", "character": "(table, k)", "combined": "(table, multiples)",
         "fixed_points": "(group, permutations)"},
+    "induced": {
+        "restricted": "(f, subgroup)", "induced": "(group, subgroup, f)", "coset_function": "(group, subgroup)"},
+    "normal": {
+        "kernel": "(table, k)", "centre": "(table, k)", "elements_of": "(group, indexes)",
+        "normal_subgroups": "(table)", "derived": "(table)", "group_centre": "(table)", "linear": "(table)"},
+    "lattice": {
+        "join": "(table, one, two)", "meet": "(one, two)", "quotient_characters": "(table, normal)",
+        "chief_row": "(table)", "chief_factors": "(table)", "is_simple": "(table)", "is_soluble": "(table)",
+        "is_abelian": "(table)"},
 }
 
 CLASSES = {
