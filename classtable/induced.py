@@ -31,8 +31,7 @@ def _induced(group, subgroup, f):
     values = []
     for members in known:
         counts = _meetings(group, subgroup, found, members[0])
-        # Values that are not met are left out: nothing of theirs may put the sum out of reach.
-        total = added([value.scaled(many) for value, many in zip(f.row, counts) if many > 0])
+        total = added([value.scaled(many) for value, many in zip(f.row, counts)])
         values.append(total.over(len(subgroup)))
     return ClassFunction(group, values, known=known)
 

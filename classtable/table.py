@@ -36,17 +36,16 @@ class CharacterTable:
         return central_row(self.group, row[0].whole(), row)
 
 
-def _rank(pair):
-    """What the character with this degree and these values is sorted by."""
-    d, values = pair
+def rank(row):
+    """What the row of a character is sorted by (point 5.4)."""
     one = of_integer(1)
-    trivial = all([x == one for x in values])
-    return (0 if trivial else 1, d, tuple([x.key() for x in values]))
+    trivial = all([x == one for x in row])
+    return (0 if trivial else 1, row[0].whole(), tuple([x.key() for x in row]))
 
 
 def character_table(group):
     """The CharacterTable of the group."""
-    return CharacterTable(group, tuple([values for _, values in sorted(characters(group), key=_rank)]))
+    return CharacterTable(group, tuple(sorted([values for _, values in characters(group)], key=rank)))
 
 
 def is_central_row(group, row):

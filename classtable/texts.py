@@ -27,3 +27,8 @@ def number_of(word):
         return None
     n = int(word)
     return n if digits(n) == word else None
+
+
+def is_word(value, most):
+    """True if the value is a string of 1 to so many small letters from a to z."""
+    return isinstance(value, str) and 1 <= len(value) <= most and all(["a" <= c <= "z" for c in value])

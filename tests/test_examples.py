@@ -49,6 +49,14 @@ EXAMPLES = """
 >>> from classtable.table import character_table
 >>> chief_factors(character_table(cyclic(6)))
 (2, 3)
+
+>>> from classtable.console import Console
+>>> console = Console()
+>>> console.enter("cycle two ; 2").text
+'order 2'
+
+>>> console.enter("table two").text
+'1, 1 | 1, -1'
 """
 
 
@@ -62,7 +70,7 @@ def failures(text, name):
 class Examples(unittest.TestCase):
     def test_document(self):
         attempted, told = failures(EXAMPLES, "document")
-        self.assertEqual((attempted, told), (25, ""))
+        self.assertEqual((attempted, told), (29, ""))
 
     def test_readme(self):
         attempted, told = failures(README.read_text(encoding="utf-8").replace("```", ""), "readme")

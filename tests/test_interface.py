@@ -48,6 +48,9 @@ FUNCTIONS = {
         "join": "(table, one, two)", "meet": "(one, two)", "quotient_characters": "(table, normal)",
         "chief_row": "(table)", "chief_factors": "(table)", "is_simple": "(table)", "is_soluble": "(table)",
         "is_abelian": "(table)"},
+    "sheet": {"read_line": "(names, line)", "table_text": "(rows)", "read_rows": "(text)"},
+    "replies": {"reply_to": "(names, line)", "is_right": "(names, entry)"},
+    "log": {"write_log": "(entries)", "read_log": "(text)", "first_wrong": "(entries)"},
 }
 
 CLASSES = {
@@ -75,6 +78,10 @@ CLASSES = {
         "degree": "(self)", "scaled": "(self, c)", "mirrored": "(self)", "raised": "(self, k)", "inner": "(self, g)",
         "symmetric_square": "(self)", "exterior_square": "(self)", "indicator": "(self)", "multiples": "(self, table)",
         "is_sum_of_characters": "(self, table)"}},
+    "replies": {"Reply": {"__init__": "(self, kind, text='')", "__eq__": "(self, other)"}},
+    "console": {"Console": {
+        "__init__": "(self, *, most=200)", "enter": "(self, line)", "__len__": "(self)", "__iter__": "(self)",
+        "names": "(self)", "log": "(self)"}},
 }
 
 
